@@ -1,0 +1,1 @@
+"""Goldplaces: numbers written by the powers of the golden number."""
