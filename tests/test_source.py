@@ -151,7 +151,8 @@ class Source(unittest.TestCase):
                     if isinstance(node, (ast.FunctionDef, ast.ClassDef)):
                         self.assertEqual(node.decorator_list, [])
                     if isinstance(node, ast.arguments):
-                        self.assertEqual((node.vararg, node.kwarg, node.kwonlyargs, node.posonlyargs), (None, None, [], []))
+                        self.assertEqual((node.vararg, node.kwarg), (None, None))
+                        self.assertEqual((node.kwonlyargs, node.posonlyargs), ([], []))
                     if isinstance(node, (ast.For, ast.While)):
                         self.assertEqual(node.orelse, [])
                     if isinstance(node, ast.ListComp):
